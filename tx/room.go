@@ -130,7 +130,7 @@ func (t *transaction) carried(b []byte, at uint64) api.Errno {
 		if e != api.OK || n > uint64(len(b)-24) {
 			return api.ErrForm
 		}
-		t.push(step{lsn: lsn, prev: prev, at: at, data: b[24 : 24+n : 24+n]}, 1)
+		t.push(step{lsn: lsn, prev: prev, at: at, data: b[24 : 24+n : 24+n]}, 0)
 		b = b[24+n:]
 	}
 	return api.OK
