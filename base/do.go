@@ -105,6 +105,7 @@ func (a *asked) drop() api.Reply {
 		at, _ := b.place(c.name)
 		b.colls = slices.Delete(b.colls, at, at+1)
 		delete(b.notes, c.name)
+		delete(b.claims, c.name)
 		for _, x := range dropped {
 			b.loosen(x)
 		}

@@ -14,9 +14,8 @@ import (
 )
 
 const (
-	digPages   = 8  // pages that Dig frees at most
-	digEntries = 64 // entries that it looks at
-	batch      = 16 // entries that go into a tree in one group
+	digPages = 8  // pages that Dig frees at most
+	batch    = 16 // entries that go into a tree in one group
 )
 
 // Noted tells the keys that were noted.
@@ -220,9 +219,9 @@ func (d *digger) dig(g *atom.Group) api.Errno {
 	return d.b.takeLoose(g, d.x.root)
 }
 
-// chains frees chains, of some entries on.
+// chains frees chains, as many pages of them as may be.
 func (d *digger) chains(g *atom.Group) api.Errno {
-	for range digEntries {
+	for {
 		k, v, ok, e := above(g, d.x.root, d.at)
 		if e != api.OK {
 			return e
@@ -237,7 +236,6 @@ func (d *digger) chains(g *atom.Group) api.Errno {
 		}
 		d.at = k
 	}
-	return api.OK
 }
 
 // chain frees what may be freed of an entry's chain; the entry leads to what is left of it, in as many bytes.

@@ -88,6 +88,39 @@ func (b *Base) Next(name, of string, after []byte) (k []byte, d api.Val, ok bool
 	return k, d, true, api.OK
 }
 
+// At tells the document of a key; false, if there is none.
+func (b *Base) At(name string, k []byte) (api.Val, bool, api.Errno) {
+	c, ok := b.find(name)
+	if !ok {
+		return api.Val{}, false, api.ErrName
+	}
+	if len(k) < 1 || len(k) > api.MaxKey {
+		return api.Val{}, false, api.OK
+	}
+	d, _, ok, e := c.read(b.s, k)
+	return d, ok, e
+}
+
+// Claim tells a number for a collection that nobody else has claimed.
+func (b *Base) Claim(name string) (uint64, api.Errno) {
+	if _, ok := b.find(name); !ok {
+		return 0, api.ErrName
+	}
+	if b.claims[name] != 0 {
+		return 0, api.ErrBusy
+	}
+	b.claimed++
+	b.claims[name] = b.claimed
+	return b.claimed, api.OK
+}
+
+// Unclaim gives up what was claimed by that number.
+func (b *Base) Unclaim(name string, claim uint64) {
+	if b != nil && b.claims[name] == claim {
+		delete(b.claims, name)
+	}
+}
+
 // Note notes from now on the keys of documents that change in a collection, or no longer.
 func (b *Base) Note(name string, on bool) api.Errno {
 	if _, ok := b.find(name); !ok {

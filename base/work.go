@@ -88,11 +88,21 @@ func (b *Base) spared(g *atom.Group, more *op) api.Errno {
 		}
 	}
 	left, e := space.Left(g)
+	if e != api.OK {
+		return e
+	}
+	before, e := space.Left(b.s)
+	if e == api.OK && left < before {
+		need += b.slack()
+	}
 	if e == api.OK && left < need {
 		e = api.ErrFull
 	}
 	return e
 }
+
+// slack tells how many pages stay free whatever needs pages, so that documents can be taken out of a base that is full.
+func (b *Base) slack() int { return min(8, b.s.Disk().Pages()/8) }
 
 // weight tells how many pages undoing a change may write at most: on the ways into the trees, those beside them,
 // the chain's, and those of marks.
