@@ -221,8 +221,17 @@ func (b *Base) each(root int, from []byte, do func(k, v []byte) (bool, api.Errno
 	return e
 }
 
-// above tells the entry with the least key above after, which may be no key.
+// above tells the entry with the least key above after, which may be no key. Of a tree that is out of order
+// it tells ErrForm: else going through it might not end.
 func above(r atom.Reader, root int, after []byte) (k, v []byte, ok bool, e api.Errno) {
+	k, v, ok, e = seekAbove(r, root, after)
+	if ok && bytes.Compare(k, after) <= 0 {
+		return nil, nil, false, api.ErrForm
+	}
+	return k, v, ok, e
+}
+
+func seekAbove(r atom.Reader, root int, after []byte) (k, v []byte, ok bool, e api.Errno) {
 	if len(after) < api.MaxKey {
 		return tree.Seek(r, root, append(slices.Clone(after), 0))
 	}
