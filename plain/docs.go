@@ -81,6 +81,19 @@ func clashes(others []api.Val, x IndexDef, doc api.Val) bool {
 	})
 }
 
+// twice tells whether two documents have the same value in an index: the same key then.
+func twice(docs []api.Val, x IndexDef) bool {
+	var keys [][]byte
+	for _, doc := range docs {
+		if v, ok := val.Path(doc, x.Path); ok {
+			k, _ := key.Of(v)
+			keys = append(keys, k)
+		}
+	}
+	slices.SortFunc(keys, bytes.Compare)
+	return len(slices.CompactFunc(keys, bytes.Equal)) < len(keys)
+}
+
 // row is a document, what it is sorted by, and the value that bounds are held against.
 type row struct {
 	k   []byte
