@@ -209,18 +209,18 @@ func (a *asked) tryChange(k []byte, old api.Val, was []byte, now api.Val, bytes 
 		return e
 	}
 	o := b.opOf(a.c, was, turns)
-	if e := b.spared(g, &o); e != api.OK {
-		return e
-	}
-	pages, e := b.weight(g, a.c, o, turns)
+	n, e := b.needed(g, &o)
 	if e != api.OK {
 		return e
 	}
-	if e := b.m.DoneFor(a.t, g, undoData(o.seq, a.c.name, k, was), pages); e != api.OK {
+	if e := b.spared(g, n); e != api.OK {
+		return e
+	}
+	if e := b.m.DoneFor(a.t, g, undoData(o.seq, a.c.name, k, was), n.heaviest()); e != api.OK {
 		return e
 	}
 	b.ops = o.seq
-	a.w.ops = append(a.w.ops, o)
+	a.w.add(o)
 	return api.OK
 }
 

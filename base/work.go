@@ -13,18 +13,53 @@ import (
 
 // op is a change of a transaction that may be undone, and what undoing it needs.
 type op struct {
-	seq   uint64
-	pages int   // of the chain that is written again
-	trees []int // into which an entry is put
+	seq     uint64
+	pages   int   // of the chain that is written again
+	puts    []int // the trees into which an entry is put
+	touched []int // those of which one is changed, each as often
 }
 
-// work is what a transaction that is active did.
+// work is what a transaction that is active did, and what undoing all of it needs.
 type work struct {
 	changed map[string]struct{} // collections, those too of which all was undone
 	ops     []op
+	pages   int         // of chains that are written again
+	puts    map[int]int // how many entries are put into each tree
+	trees   map[int]struct{}
+	fattest int // pages of the longest of the chains
+	widest  int // entries that one change touches at most
 }
 
-func newWork() *work { return &work{changed: map[string]struct{}{}} }
+func newWork() *work {
+	return &work{changed: map[string]struct{}{}, puts: map[int]int{}, trees: map[int]struct{}{}}
+}
+
+// add notes a change.
+func (w *work) add(o op) {
+	w.ops = append(w.ops, o)
+	w.count(o, 1)
+	for _, root := range o.touched {
+		w.trees[root] = struct{}{}
+	}
+	w.fattest = max(w.fattest, o.pages)
+	w.widest = max(w.widest, len(o.touched))
+}
+
+// count counts what undoing a change needs, or no longer.
+func (w *work) count(o op, by int) {
+	w.pages += by * o.pages
+	for _, root := range o.puts {
+		w.puts[root] += by
+	}
+}
+
+// cut forgets the changes from a place on.
+func (w *work) cut(at int) {
+	for _, o := range w.ops[at:] {
+		w.count(o, -1)
+	}
+	w.ops = w.ops[:at]
+}
 
 // busy tells whether an active transaction has changed a collection of that name.
 func (b *Base) busy(name string) bool {
@@ -41,58 +76,96 @@ func (b *Base) Busy(name string) bool { return b != nil && b.busy(name) }
 
 // opOf tells what undoing a change needs: the old document's bytes, and what changed of indexes.
 func (b *Base) opOf(c *coll, old []byte, turns []turn) op {
-	out := op{seq: b.ops + 1}
+	out := op{seq: b.ops + 1, touched: []int{c.root}}
 	if len(old) > 0 {
-		out.trees = append(out.trees, c.root)
+		out.puts = append(out.puts, c.root)
 	}
 	if len(old) > inlineMost {
 		out.pages = chain.Need(len(old))
 	}
 	for _, t := range turns {
 		if t.old != nil {
-			out.trees = append(out.trees, t.x.root)
+			out.puts = append(out.puts, t.x.root)
+			out.touched = append(out.touched, t.x.root)
+		}
+		if t.now != nil {
+			out.touched = append(out.touched, t.x.root)
 		}
 	}
 	return out
 }
 
-// spared tells ErrFull, if fewer pages were left than undoing needs: what is active, and one change more.
-// An entry that is put in needs at most a page for each level of its tree, and one more for a new root.
-func (b *Base) spared(g *atom.Group, more *op) api.Errno {
-	deep := map[int]int{}
-	need := 0
-	count := func(o op) api.Errno {
-		need += o.pages
-		for _, root := range o.trees {
-			if deep[root] == 0 {
-				n, e := tree.Depth(g, root)
-				if e != api.OK {
-					return e
-				}
-				deep[root] = n
-			}
-			need += deep[root] + 1
-		}
-		return api.OK
+// needs is what undoing all that is active needs, as deep as the trees are by now.
+type needs struct {
+	g     *atom.Group
+	deep  map[int]int // of the trees that were met
+	pages int         // that must be free
+	fat   int         // pages of the longest chain
+	wide  int         // entries that one change touches at most
+}
+
+// depth tells how deep a tree is.
+func (n *needs) depth(root int) (int, api.Errno) {
+	if d := n.deep[root]; d > 0 {
+		return d, api.OK
 	}
-	for _, w := range b.works {
-		for _, o := range w.ops {
-			if e := count(o); e != api.OK {
-				return e
-			}
-		}
-	}
-	if more != nil {
-		if e := count(*more); e != api.OK {
+	d, e := tree.Depth(n.g, root)
+	n.deep[root] = d
+	return d, e
+}
+
+// add counts what undoing a transaction needs. An entry that is put in needs at most a page for each level
+// of its tree, and one more for a new root.
+func (n *needs) add(w *work) api.Errno {
+	n.pages += w.pages
+	n.fat, n.wide = max(n.fat, w.fattest), max(n.wide, w.widest)
+	for root := range w.trees {
+		d, e := n.depth(root)
+		if e != api.OK {
 			return e
 		}
+		n.pages += w.puts[root] * (d + 1)
 	}
+	return api.OK
+}
+
+// heaviest tells how many pages undoing one change may write at most: a page of each level of a tree and one beside it,
+// one more for a new root, a chain's, and those of marks.
+func (n *needs) heaviest() int {
+	deepest := 0
+	for _, d := range n.deep {
+		deepest = max(deepest, d)
+	}
+	// page 0 is written by none: the others of space's own are those of marks
+	own, _ := space.Own(n.g)
+	return own - 1 + n.fat + n.wide*(2*deepest+1)
+}
+
+// needed tells what undoing all that is active needs, and one change more.
+func (b *Base) needed(g *atom.Group, more *op) (*needs, api.Errno) {
+	n := &needs{g: g, deep: map[int]int{}}
+	for _, w := range b.works {
+		if e := n.add(w); e != api.OK {
+			return nil, e
+		}
+	}
+	if more == nil {
+		return n, api.OK
+	}
+	w := newWork()
+	w.add(*more)
+	return n, n.add(w)
+}
+
+// spared tells ErrFull, if fewer pages were left than undoing needs: what is active, and one change more.
+func (b *Base) spared(g *atom.Group, n *needs) api.Errno {
 	left, e := space.Left(g)
 	if e != api.OK {
 		return e
 	}
 	before, e := space.Left(b.s)
-	if e == api.OK && left < before {
+	need := n.pages
+	if left < before {
 		need += b.slack()
 	}
 	if e == api.OK && left < need {
@@ -103,24 +176,6 @@ func (b *Base) spared(g *atom.Group, more *op) api.Errno {
 
 // slack tells how many pages stay free whatever needs pages, so that documents can be taken out of a base that is full.
 func (b *Base) slack() int { return min(8, b.s.Disk().Pages()/8) }
-
-// weight tells how many pages undoing a change may write at most: on the ways into the trees, those beside them,
-// the chain's, and those of marks.
-func (b *Base) weight(g *atom.Group, c *coll, o op, turns []turn) (int, api.Errno) {
-	n, e := tree.Depth(g, c.root)
-	if e != api.OK {
-		return 0, e
-	}
-	pages := 4 + o.pages + 2*n + 4
-	for _, t := range turns {
-		n, e := tree.Depth(g, t.x.root)
-		if e != api.OK {
-			return 0, e
-		}
-		pages += 2 * (2*n + 4)
-	}
-	return pages, api.OK
-}
 
 // The kinds of undo data.
 const (
@@ -228,7 +283,7 @@ func (b *Base) undone(seq uint64) {
 	for _, w := range b.works {
 		at := slices.IndexFunc(w.ops, func(o op) bool { return o.seq == seq })
 		if at >= 0 {
-			w.ops = w.ops[:at]
+			w.cut(at)
 		}
 	}
 }
