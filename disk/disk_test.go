@@ -92,6 +92,31 @@ func TestLog(t *testing.T) {
 	}
 }
 
+// R4: nothing that is handed in is kept.
+func TestKeepsNothing(t *testing.T) {
+	d := made(t, 1, 9)
+	b := []byte("ab")
+	d.Mark(b)
+	b[0] = 'x'
+	if m, _ := d.Marked(); string(m) != "ab" {
+		t.Error("Mark", m)
+	}
+	d.Cut(0, b)
+	b[0] = 'y'
+	if m, _ := d.Marked(); string(m) != "xb" {
+		t.Error("Cut", m)
+	}
+	d.Fuse(0)
+	d.Append(b)
+	b[0] = 'z'
+	if got := log(d.Crash([]byte{2})); got != "yb" {
+		t.Error("Append", got)
+	}
+	if made(t, 1, 9).Cut(0, make([]byte, 64)) != api.OK {
+		t.Error("a mark of 64 bytes")
+	}
+}
+
 // P6.3: fuses; a dead device answers nothing.
 func TestFuse(t *testing.T) {
 	ops := []func(*Disk) api.Errno{

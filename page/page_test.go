@@ -34,6 +34,14 @@ func TestNew(t *testing.T) {
 			t.Error("New of", k)
 		}
 	}
+	for _, k := range []int{0, 255} {
+		if p, e := New(k); e != api.OK || int(p[12]) != k {
+			t.Error("New of", k, e)
+		}
+	}
+	if q, e := Set(p, 0, 0); e != api.OK || !bytes.Equal(q, p) {
+		t.Error("Set of noughts", e)
+	}
 	p, _ = Set(p, 1<<32-1, 5)
 	p, _ = Seal(p, 9)
 	if k, lsn, link, extra, e := Head(p); k != 7 || lsn != 9 || link != 1<<32-1 || extra != 5 || e != api.OK {
@@ -159,6 +167,29 @@ func TestReplace(t *testing.T) {
 	q, e = Replace(p, 0, bytes.Repeat([]byte{7}, 476))
 	if e != api.OK || !bytes.Equal(q[16:18], []byte{34, 0}) || string(q[510:512]) != "ef" {
 		t.Error("Replace that fills the page lays it out anew", e)
+	}
+}
+
+// P5.2, P5.3: a page is laid out anew just if too few bytes stand between the slots and low.
+func TestLaidAnew(t *testing.T) {
+	p := fresh(t, "hole", string(make([]byte, 300)))
+	p, _ = Remove(p, 0) // low is 208, the slots end at 30
+	for n, want := range map[int]int{174: 208 - 174, 175: 512 - 300 - 175} {
+		if q, e := Insert(p, 1, make([]byte, n)); e != api.OK || int(q[16])+256*int(q[17]) != want {
+			t.Error("Insert of", n, e, q[16:18])
+		}
+	}
+	p = fresh(t, "hole", string(make([]byte, 300)), "x")
+	p, _ = Remove(p, 0) // low is 207, the slots end at 34
+	for n, want := range map[int]int{173: 207 - 173, 174: 512 - 300 - 174} {
+		if q, e := Replace(p, 1, make([]byte, n)); e != api.OK || int(q[16])+256*int(q[17]) != want {
+			t.Error("Replace by", n, e, q[16:18])
+		}
+	}
+	full := fresh(t, string(make([]byte, 482)))
+	q, e := Replace(full, 0, bytes.Repeat([]byte{7}, 482))
+	if e != api.OK || !bytes.Equal(q[16:18], full[16:18]) || q[511] != 7 {
+		t.Error("Replace by as many", e)
 	}
 }
 

@@ -50,7 +50,7 @@ func made(t *testing.T, s *atom.Store) int {
 
 func b(s string) []byte { return []byte(s) }
 
-// The chapter's examples.
+// P11.1, P11.2: the chapter's examples.
 func TestExamples(t *testing.T) {
 	s := store(t, 8)
 	root := made(t, s)

@@ -195,6 +195,9 @@ func TestCutCheck(t *testing.T) {
 	if _, _, e := l.Read(1); e != api.ErrArg {
 		t.Error("a record that was cut")
 	}
+	if lsn, _ := l.Append(api.Rec{Kind: 9}); lsn != l.Forced() || l.Check(lsn) != api.ErrArg || l.Cut(lsn) != api.ErrArg {
+		t.Error("a record that is not forced", lsn)
+	}
 	l2 := opened(t, d.Crash(nil))
 	if l2.First() != 15 || l2.Checked() != 29 || l2.End() != 71 || l2.Forced() != 71 {
 		t.Error("opened anew")
