@@ -140,9 +140,9 @@ func TestSteps(t *testing.T) {
 			t.Error("Catch", n, e)
 		}
 	}
-	for _, want := range []int{3, 1, 0} {
-		if n, e := x.Catch(3); n != want || e != api.OK {
-			t.Error("Catch", n, want, e)
+	for _, c := range [][2]int{{1, 1}, {2, 2}, {3, 1}, {3, 0}} {
+		if n, e := x.Catch(c[0]); n != c[1] || e != api.OK {
+			t.Error("Catch", c, n, e)
 		}
 	}
 	if _, e := b.Entries("a", "i"); e != api.ErrName {

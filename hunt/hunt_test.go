@@ -70,6 +70,9 @@ func TestErrors(t *testing.T) {
 			t.Error("fuses", c, e)
 		}
 	}
+	if l, e := Hunt(p, 0, 0); len(l) != 1 || e != api.OK || !l[0].Died {
+		t.Error("one fuse", l, e)
+	}
 	if l, e := Hunt(p, 100, 300); len(l) != 1 || e != api.OK || l[0].Died {
 		t.Error("the first one does not die", l, e)
 	}

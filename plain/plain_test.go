@@ -59,7 +59,7 @@ func TestDo(t *testing.T) {
 		{api.Request{Do: Take, Coll: "a"}, "4 n0"}, {api.Request{Do: Get, Coll: "a", Key: v(`"` + long + `"`)}, "14 n0"}, {api.Request{Do: Get, Coll: "a", Key: v("9")}, "17 n0"},
 		{api.Request{Do: Find, Coll: "a", N: 0, Low: api.Val{Kind: 9}}, "1 n0"}, {api.Request{Do: Find, Coll: "a", N: 65}, "1 n0"}, {api.Request{Do: Find, Coll: "a", N: 64, Low: api.Val{Kind: 9}}, "4 n0"},
 		{api.Request{Do: Find, Coll: "a", N: 1, High: api.Val{Kind: api.Text, B: make([]byte, 5000)}}, "2 n0"}, {api.Request{Do: Find, Coll: "a", N: 64}, `0 n2 {"_id": 1, "x": 6} {"_id": 2, "x": f4018000000000000}`},
-		{api.Request{Do: Find, Coll: "a", N: 1, Low: v("1")}, `0 n1 {"_id": 1, "x": 6}`}, {api.Request{Do: Find, Coll: "a", N: 9, Low: v("2"), High: v("1")}, "0 n0"},
+		{api.Request{Do: Find, Coll: "a", N: 1, Low: v("1")}, `0 n1 {"_id": 1, "x": 6}`}, {api.Request{Do: Find, Coll: "a", N: 9, Low: v("2"), High: v("1")}, "0 n0"}, {api.Request{Do: Find, Coll: "a", N: 9, Low: v("1"), High: v("1")}, `0 n1 {"_id": 1, "x": 6}`},
 		{api.Request{Do: Find, Coll: "a", N: 9, High: v(`"` + strings.Repeat("z", 500) + `"`)}, `0 n2 {"_id": 1, "x": 6} {"_id": 2, "x": f4018000000000000}`},
 		{api.Request{Do: Index, Coll: "a", Index: "u", Path: "none", Unique: true}, "0 n0"}, {api.Request{Do: Unindex, Coll: "a", Index: "i"}, "0 n0"}, {api.Request{Do: Put, Coll: "a", Doc: v(`{"_id": 2, "x": 6}`)}, "0 n1"},
 		{api.Request{Do: Index, Coll: "a", Index: "i", Path: "x", Unique: true}, "13 n0"}, {api.Request{Do: Index, Coll: "a", Index: "i", Path: "x"}, "0 n0"},

@@ -46,7 +46,7 @@ func TestForms(t *testing.T) {
 	} {
 		play(t, line, "?")
 	}
-	play(t, "# 1 begin /   / \t#x /  01  begin \t / 000000001\rcommit / 1 find a 007 / 1 raw 4D44ff", "1: 0 / 1: 0 / 1: 5 / -")
+	play(t, "# 1 begin /   / \t#x /  01  begin \t / 000000001\rcommit / 1 find a 007 / 1 raw 4D44ff / 4 commit / 4 raw 09AFaf / step 4", "1: 0 / 1: 0 / 1: 5 / - / 4: 12 / 4: 4 / -")
 	if got, e := Run("1 begin\n\n"); got != "1: 0\n" || e != api.OK {
 		t.Error("a text that ends with the byte 10", got, e)
 	}

@@ -150,6 +150,12 @@ func TestRoots(t *testing.T) {
 	if SetRoot(g, 3, 8) != api.ErrArg || SetRoot(g, 3, -1) != api.ErrArg {
 		t.Error("SetRoot to no page")
 	}
+	if SetRoot(g, 5, 6) != api.OK || SetRoot(g, 5, 0) != api.OK {
+		t.Error("SetRoot to page 0")
+	}
+	if n, _ := Root(g, 5); n != 0 {
+		t.Error("Root set to 0", n)
+	}
 	a, _ := Root(g, 15)
 	b, _ := Root(s, 15)
 	c, _ := Root(g, 14)

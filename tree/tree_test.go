@@ -420,6 +420,38 @@ func TestEmpty(t *testing.T) {
 	}
 }
 
+// P11.3: Check tells of leaves that are not equally deep, and of keys that are not where the way leads.
+func TestCheckShape(t *testing.T) {
+	s := store(t, 400)
+	root, _ := filled(t, s, 250, 90)
+	x, _ := load(s, root)
+	for i := range x.cells {
+		below, e := load(s, x.child(i))
+		if e != api.OK || below.leaf {
+			t.Fatal("a tree that is too small to test by")
+		}
+		g, _ := s.Group()
+		y := x
+		y.cells = slices.Clone(x.cells)
+		y.cells[i] = branch(below.child(0), x.key(i))
+		y.save(g)
+		if Check(g, root) != api.ErrForm {
+			t.Error("a leaf that is not as deep, at", i)
+		}
+		g.Drop()
+		if i == 0 {
+			continue
+		}
+		g, _ = s.Group()
+		y.cells[i] = branch(x.child(i), append(slices.Clone(x.key(i)), 'x'))
+		y.save(g)
+		if Check(g, root) != api.ErrForm {
+			t.Error("keys below what leads to them, at", i)
+		}
+		g.Drop()
+	}
+}
+
 // P11.3: Check tells of keys out of order.
 func TestCheckTells(t *testing.T) {
 	s := store(t, 300)

@@ -51,7 +51,7 @@ func TestPut(t *testing.T) {
 		e api.Errno
 	}{
 		{api.Reply{E: -1}, 1}, {api.Reply{E: 256}, 1}, {api.Reply{N: -1}, 1}, {api.Reply{N: 1 << 31}, 1}, {api.Reply{Cursor: -1}, 1}, {api.Reply{Cursor: 1 << 31}, 1}, {api.Reply{Docs: make([]api.Val, 65)}, 1},
-		{api.Reply{Docs: make([]api.Val, 64)}, 4}, {api.Reply{Docs: []api.Val{big, big}}, 0}, {api.Reply{Docs: []api.Val{big, big, big}}, 2},
+		{api.Reply{N: 1<<31 - 1, Cursor: 1<<31 - 1, E: 255}, 0}, {api.Reply{Docs: make([]api.Val, 64)}, 4}, {api.Reply{Docs: []api.Val{big, big}}, 0}, {api.Reply{Docs: []api.Val{big, big, big}}, 2},
 	} {
 		if b, e := PutReply(c.r); e != c.e || e != 0 && b != nil {
 			t.Errorf("reply %d: %d, want %d", i, e, c.e)
@@ -88,7 +88,7 @@ func TestGet(t *testing.T) {
 	}{
 		{good, 18, 0}, {good[:5], 0, 17}, {nil, 0, 17}, {[]byte{77}, 0, 17}, {[]byte{77, 1}, 0, 4}, {[]byte{1}, 0, 4}, {[]byte{77, 68, 255, 255}, 0, 2}, {[]byte{77, 68, 255}, 0, 17}, {[]byte{77, 68, 225, 46}, 0, 2}, {[]byte{77, 68, 224, 46}, 0, 17},
 		{turned, 18, 8}, {append(bytes.Clone(turned), 1), 18, 8}, {turned[:17], 0, 17}, {append(bytes.Clone(good), 9, 9), 18, 0}, {summed(), 8, 4}, {summed(make([]byte, 9)...), 17, 4}, {summed(make([]byte, 11)...), 19, 4},
-		{summed(0, 0, 0, 0, 128, 0, 0, 0, 0, 0), 18, 4}, {summed(0, 0, 0, 0, 0, 0, 0, 0, 128, 0), 18, 4}, {summed(append(make([]byte, 9), 65)...), 18, 4}, {summed(append(make([]byte, 9), 1, 1, 0, 9)...), 21, 4}, {summed(append(make([]byte, 9), 1, 1, 0, 1)...), 21, 0},
+		{summed(0, 0, 0, 0, 128, 0, 0, 0, 0, 0), 18, 4}, {summed(0, 0, 0, 0, 0, 0, 0, 0, 128, 0), 18, 4}, {summed(0, 255, 255, 255, 127, 255, 255, 255, 127, 0), 18, 0}, {summed(append(make([]byte, 9), 65)...), 18, 4}, {summed(append(make([]byte, 9), 1, 1, 0, 9)...), 21, 4}, {summed(append(make([]byte, 9), 1, 1, 0, 1)...), 21, 0},
 	} {
 		r, n, e := GetReply(c.b)
 		if n != c.n || e != c.e || e != 0 && (r.N != 0 || r.Docs != nil) {
