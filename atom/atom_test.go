@@ -386,3 +386,37 @@ func TestDeadStore(t *testing.T) {
 		t.Error("no store")
 	}
 }
+
+// Who dies over a checkpoint again and again does not fill the log.
+func TestCheckpointAgain(t *testing.T) {
+	d := device(t, 4, 900)
+	s := opened(t, d, 2)
+	g := group(t, s)
+	g.Write(1, numbered(1, 5))
+	g.Done(api.Rec{Kind: 1})
+	s.Clean()
+	for i := range 60 {
+		d.Fuse(i % 4) // it dies when it appends, forces, marks or cuts
+		if e := s.Checkpoint(0, make([]byte, 100)); e != api.ErrDead && e != api.OK {
+			t.Fatal("Checkpoint", i, e)
+		}
+		d = d.Crash([]byte{255, 255, 255})
+		s = opened(t, d, 2)
+	}
+	if e := s.Checkpoint(0, make([]byte, 100)); e != api.OK {
+		t.Error("Checkpoint", e)
+	}
+	if data, lsn := s.Checked(); len(data) != 100 || s.Log().First() != lsn {
+		t.Error("Checked", len(data), lsn)
+	}
+	if b, _ := s.Read(1); body(b) != body(numbered(1, 5)) {
+		t.Error("Read")
+	}
+	before, _ := s.Checked()
+	if e := s.Checkpoint(0, []byte("x")); e != api.OK {
+		t.Error("another one", e)
+	}
+	if data, _ := s.Checked(); string(data) != "x" || len(before) != 100 {
+		t.Error("another one's data")
+	}
+}

@@ -384,7 +384,7 @@ func TestAsPlain(t *testing.T) {
 func TestCrashes(t *testing.T) {
 	for seed := range uint64(14) {
 		for fuse := int(seed % 3); ; fuse += 3 {
-			d := device(t, 120, 1<<15)
+			d := device(t, 34+int(seed%4)*30, 5000+int(seed%5)*6000)
 			d.Fuse(fuse)
 			r := newRun(t, d, seed)
 			for i := 0; i < 110 && !d.Dead() && r.b != nil; i++ {
@@ -394,10 +394,13 @@ func TestCrashes(t *testing.T) {
 			choice := src.Bytes(60)
 			left := check(t, r, d.Crash(choice))
 			c := d.Crash(choice)
-			c.Fuse(src.Below(12))
-			Open(c, 24)
-			if again := check(t, r, c.Crash(src.Bytes(40))); again != left {
-				t.Fatal("a crash while it is opened tells another state")
+			for range src.Below(9) {
+				c.Fuse(src.Below(14))
+				Open(c, 24)
+				c = c.Crash(src.Bytes(40))
+			}
+			if again := check(t, r, c); again != left {
+				t.Fatal("crashes while it is opened tell another state")
 			}
 			if !d.Dead() {
 				break

@@ -59,17 +59,29 @@ func (m *Manager) data() []byte {
 	return b
 }
 
-// keep tells the first record that undoing what is active needs; 0, if it needs none.
-func (m *Manager) keep() uint64 {
-	var out uint64
+// oldest tells the first record that undoing what is active needs, and its transaction; 0, if it needs none.
+func (m *Manager) oldest() (at uint64, of *transaction) {
 	for _, t := range m.active {
 		for _, x := range t.steps {
-			if len(x.data) > 0 && (out == 0 || x.at < out) {
-				out = x.at
+			if len(x.data) > 0 && (at == 0 || x.at < at) {
+				at, of = x.at, t
 			}
 		}
 	}
-	return out
+	return at, of
+}
+
+// checkpoint lets the log be cut ahead of what undoing needs.
+func (m *Manager) checkpoint() api.Errno {
+	at, _ := m.oldest()
+	return m.s.Checkpoint(at, m.data())
+}
+
+// enough tells whether a log that is cut at an LSN has room for undoing all, and half of its room besides.
+func (m *Manager) enough(at uint64) bool {
+	bytes, heaviest := m.need()
+	used, room := int(m.s.Log().End()-at), m.s.Disk().Room()
+	return bytes+heaviest <= room-used && used <= room/2
 }
 
 // Checkpoint lets the log be cut as far as nothing is needed of it.
@@ -80,10 +92,12 @@ func (m *Manager) Checkpoint() api.Errno {
 	if bytes, _ := m.need(); m.free() < bytes+checkpointCost {
 		return m.Renew()
 	}
-	return m.s.Checkpoint(m.keep(), m.data())
+	return m.checkpoint()
 }
 
-// Renew makes all pages certain, notes anew what is to be undone, and lets the log be cut ahead of that.
+// Renew makes all pages certain, notes anew what is to be undone of the transactions that keep the log long, the
+// oldest first, and lets the log be cut ahead of that. No more is noted than must be: if the device dies ahead
+// of the cut, and again, the room that is kept back for it must not be used twice.
 func (m *Manager) Renew() api.Errno {
 	if m == nil {
 		return api.ErrState
@@ -91,9 +105,11 @@ func (m *Manager) Renew() api.Errno {
 	if e := m.s.Clean(); e != api.OK {
 		return e
 	}
-	for _, t := range m.all() {
-		if len(t.steps) == 0 || t.bytes > mostCarried {
-			continue
+	start := m.s.Log().End()
+	for {
+		at, t := m.oldest()
+		if t == nil || at >= start || t.bytes > mostCarried || m.enough(at) {
+			return m.checkpoint()
 		}
 		lsn, e := m.s.Log().Append(api.Rec{Kind: carryKind, Tx: t.id, Prev: t.last, Data: t.carry()})
 		if e != api.OK {
@@ -104,7 +120,6 @@ func (m *Manager) Renew() api.Errno {
 			t.steps[i].at = lsn
 		}
 	}
-	return m.s.Checkpoint(m.keep(), m.data())
 }
 
 // carry tells a transaction's steps as bytes: of each its LSN, the one ahead, the number of its undo data's bytes, and they.
