@@ -361,7 +361,7 @@ func TestCrashes(t *testing.T) {
 	for seed := range uint64(25) {
 		for fuse := range 500 {
 			src := sample.New(seed*777 + uint64(fuse))
-			d := device(3, 9000)
+			d := device(3, 3500+int(seed%5)*1300)
 			d.Fuse(fuse)
 			r := play(d, seed)
 			choice := src.Bytes(30)
@@ -370,7 +370,13 @@ func TestCrashes(t *testing.T) {
 				c := d.Crash(choice)
 				c.Fuse(again)
 				OpenCounters(c, 2, 3)
-				check(t, c.Crash(src.Bytes(20)), r, seed, fuse)
+				c = c.Crash(src.Bytes(20))
+				for range src.Below(4) {
+					c.Fuse(src.Below(9))
+					OpenCounters(c, 2, 3)
+					c = c.Crash(src.Bytes(20))
+				}
+				check(t, c, r, seed, fuse)
 			}
 			check(t, left, r, seed, fuse)
 			if !d.Dead() {
