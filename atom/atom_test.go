@@ -364,6 +364,29 @@ func TestFramesAreNotSeen(t *testing.T) {
 	}
 }
 
+// R4: nothing that is handed in is kept.
+func TestKeepsNothing(t *testing.T) {
+	s := opened(t, device(t, 4, 1<<14), 2)
+	g := group(t, s)
+	p := numbered(1, 7)
+	g.Write(1, p)
+	p[100] ^= 1
+	own, _ := g.Read(1)
+	own[101] ^= 1
+	if b, _ := g.Read(1); body(b) != body(numbered(1, 7)) {
+		t.Error("Write keeps its argument, or Read tells what is kept")
+	}
+	g.Drop()
+	data := []byte("abc")
+	s.Checkpoint(0, data)
+	data[0] = 'x'
+	got, _ := s.Checked()
+	got[1] = 'y'
+	if again, _ := s.Checked(); string(again) != "abc" {
+		t.Error("Checkpoint keeps its argument", string(again))
+	}
+}
+
 func TestDeadStore(t *testing.T) {
 	d := device(t, 4, 1000)
 	s := opened(t, d, 1)

@@ -126,6 +126,32 @@ func TestLongTransaction(t *testing.T) {
 	exact(t, c.b)
 }
 
+// P16.2, R3: an index for which there is no room leaves nothing, not even a grave.
+func TestIndexFull(t *testing.T) {
+	b := opened(t, device(t, 48, 1<<16), 24)
+	must(t, b, api.Request{Do: plain.Make, Coll: "a"})
+	for i := range 300 {
+		doc := api.Val{Kind: api.Doc, F: []api.Field{{Name: "_id", V: api.Val{Kind: api.Int, N: uint64(i)}}, {Name: "x", V: api.Val{Kind: api.Bytes, B: append(make([]byte, 20), byte(i+1))}}}}
+		if r := one(t, b, api.Request{Do: plain.Put, Coll: "a", Doc: doc}); r.E != api.OK {
+			break
+		}
+	}
+	before, used := state(t, b), 0
+	for i := range 3 {
+		if r := one(t, b, api.Request{Do: plain.Index, Coll: "a", Index: "i", Path: "x"}); r.E != api.ErrFull {
+			t.Fatal("Index", r.E)
+		}
+		graves, _ := b.Graves()
+		trees, _ := b.Trees()
+		pages, _ := space.Used(b.s)
+		if state(t, b) != before || len(graves) != 0 || len(trees) != 1 || i > 0 && len(pages) != used {
+			t.Error("something is left", graves, trees, len(pages), used)
+		}
+		used = len(pages)
+	}
+	exact(t, b)
+}
+
 // Beyond all bounds ErrFull is told, nothing is changed by it, and Abort has what it needs.
 func TestFull(t *testing.T) {
 	for _, log := range []int{6000, 1 << 14, 1 << 18} {

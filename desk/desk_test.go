@@ -212,8 +212,10 @@ func TestRefusals(t *testing.T) {
 			t.Error("New of", n, e)
 		}
 	}
-	if _, e := New(r.b, 8); e != api.OK {
-		t.Error("8 sessions", e)
+	for _, n := range []int{1, 8} {
+		if _, e := New(r.b, n); e != api.OK {
+			t.Error("sessions", n, e)
+		}
 	}
 	for _, s := range []int{0, 5, -1} {
 		_, e1 := r.d.Step(s)
@@ -479,6 +481,29 @@ func TestUniqueWaits(t *testing.T) {
 		r.step(2, true)
 		r.see(2, "13")
 	}
+}
+
+// P20.3: ErrFull aborts the session's transaction.
+func TestFull(t *testing.T) {
+	r := opened(t, 24, 1<<16, 24, 2)
+	r.ask(1, onA(plain.Make), "0")
+	r.ask(1, put(`{"_id": 0}`), "0")
+	r.ask(1, do(Begin), "0")
+	for n := 1; ; n++ {
+		r.feed(1, put(fmt.Sprintf(`{"_id": %d, "x": x"%s"}`, n, strings.Repeat("00", 900))))
+		r.step(1, true)
+		out := r.out(1)
+		if out == "7" {
+			break
+		}
+		if out != "0" || n > 30 {
+			t.Fatal("Put", n, out)
+		}
+	}
+	if r.d.Open(1) {
+		t.Error("the session has a transaction still")
+	}
+	r.ask(1, find(9), `0 n1 {"_id": 0}`)
 }
 
 // P20.4: Run.

@@ -50,6 +50,7 @@ func (r *run) request(open bool) api.Request {
 	if s.Below(3) == 0 {
 		q.Doc.F[1].Name = "y"
 	}
+	q.Doc.F = append(q.Doc.F, api.Field{Name: "z", V: id(s.Below(3))})
 	if s.Below(2) == 0 {
 		q.Low, q.High = id(s.Below(4)), id(2+s.Below(6))
 	}

@@ -482,3 +482,39 @@ func TestCheckTells(t *testing.T) {
 		g.Drop()
 	}
 }
+
+// P11.5: rows of entries taken out one by one, from the left or from the right, out of trees whose pages lead to few others.
+func TestRows(t *testing.T) {
+	for seed := range uint64(24) {
+		src := sample.New(seed)
+		s := store(t, 900)
+		root, m := made(t, s), model{}
+		g, _ := s.Group()
+		for range 4 {
+			for range 120 {
+				k := string(bytes.Repeat(b("k"), 92)) + fmt.Sprintf("%04d", src.Below(400))
+				m[k] = string(src.Bytes(100))
+				if _, _, e := Put(g, root, b(k), b(m[k])); e != api.OK {
+					t.Fatal("Put", e)
+				}
+			}
+			keys := m.keys()
+			from := src.Below(len(keys))
+			row := keys[from:min(len(keys), from+40+src.Below(60))]
+			if seed%2 == 0 {
+				slices.Reverse(row)
+			}
+			for _, k := range row {
+				if old, had, e := Take(g, root, b(k)); !had || string(old) != m[k] || e != api.OK {
+					t.Fatal("Take", e)
+				}
+				delete(m, k)
+				if pages, e := Pages(g, root); Check(g, root) != api.OK || e != api.OK || len(pages) > 2*len(m)+1 {
+					t.Fatal("Check", Check(g, root), len(pages), len(m))
+				}
+			}
+			same(t, g, root, m)
+		}
+		g.Drop()
+	}
+}

@@ -184,6 +184,20 @@ func TestRecords(t *testing.T) {
 	if r, _, _ := s.Log().Read(at); r.Kind != 2 || r.Tx != a || r.Next != a2 || r.Prev != a3 {
 		t.Error("the record of undoing", r, a1, b1, b2)
 	}
+	last := at
+	at = s.Log().End()
+	data := []byte("a4")
+	g, _ := s.Group()
+	m.Done(a, g, data)
+	data[0] = 'x'
+	if r, _, _ := s.Log().Read(at); r.Prev != last {
+		t.Error("the record ahead is that of undoing", r.Prev, last)
+	}
+	u.told = nil
+	m.Back(a, mark)
+	if fmt.Sprint(u.told) != "[a4]" {
+		t.Error("R4: undo data are kept", u.told)
+	}
 	s.Force(s.Log().End())
 	c := d.Crash(nil)
 	u2 := &teller{}
