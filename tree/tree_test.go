@@ -392,7 +392,7 @@ func TestMove(t *testing.T) {
 func TestEmpty(t *testing.T) {
 	s := store(t, 300)
 	for _, most := range []int{1, 3, 8, 1000} {
-		root, m := filled(t, s, 250, 90)
+		root, _ := filled(t, s, 250, 90)
 		before, _ := Pages(s, root)
 		if d, _ := Depth(s, root); d < 3 {
 			t.Error("a tree that is too small to test by")
@@ -414,8 +414,7 @@ func TestEmpty(t *testing.T) {
 				t.Fatal("Empty stands still")
 			}
 		}
-		m = model{}
-		same(t, s, root, m)
+		same(t, s, root, model{})
 		within(t, s, func(g *atom.Group) { space.Free(g, root) })
 	}
 }
