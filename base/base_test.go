@@ -16,6 +16,7 @@ import (
 	"muniment/sample"
 	"muniment/space"
 	"muniment/tree"
+	"muniment/val"
 )
 
 func device(t *testing.T, pages, log int) *disk.Disk {
@@ -464,6 +465,46 @@ func TestMemory(t *testing.T) {
 	}
 }
 
+// Words: documents of more than 100 bytes stand each in a chain of its own.
+func TestChains(t *testing.T) {
+	b := opened(t, device(t, 64, 65536), 24)
+	must(t, b, api.Request{Do: plain.Make, Coll: "a"})
+	for i, size := range []int{99, 100, 101, 500, 4096} {
+		d := api.Val{Kind: api.Doc, F: []api.Field{{Name: "_id", V: api.Val{Kind: api.Int, N: uint64(i)}}, {Name: "f", V: api.Val{Kind: api.Bytes}}}}
+		n, _ := val.Size(d)
+		d.F[1].V.B = make([]byte, size-n)
+		must(t, b, api.Request{Do: plain.Put, Coll: "a", Doc: d})
+		root, _ := b.Root("a", "")
+		chains, e := b.Chains(root)
+		if e != api.OK || len(chains) != max(0, i-1) {
+			t.Error("chains with a document of", size, chains, e)
+		}
+		if want, _ := val.Put(d); i > 1 {
+			if got, e := chain.Read(b.s, chains[len(chains)-1]); e != api.OK || !bytes.Equal(got, want) {
+				t.Error("a chain holds just the document's bytes", e)
+			}
+		}
+	}
+}
+
+// P16.2: bounds whose keys would be too long are bounds all the same.
+func TestLongBounds(t *testing.T) {
+	b := opened(t, device(t, 64, 65536), 24)
+	must(t, b, api.Request{Do: plain.Make, Coll: "a"})
+	must(t, b, api.Request{Do: plain.Index, Coll: "a", Index: "i", Path: "x"})
+	for _, s := range []string{"a", "m", "z"} {
+		must(t, b, api.Request{Do: plain.Put, Coll: "a", Doc: parse(t, `{"_id": "`+s+`", "x": "`+s+`"}`)})
+	}
+	long := parse(t, `"`+strings.Repeat("m", 200)+`"`)
+	for _, of := range []string{"", "i"} {
+		low := one(t, b, api.Request{Do: plain.Find, Coll: "a", Index: of, N: 9, Low: long})
+		high := one(t, b, api.Request{Do: plain.Find, Coll: "a", Index: of, N: 9, High: long})
+		if low.N != 1 || string(low.Docs[0].F[0].V.B) != "z" || high.N != 2 || string(high.Docs[1].F[0].V.B) != "m" {
+			t.Error("Find", of, low, high)
+		}
+	}
+}
+
 // P16.3: Entries and Next.
 func TestNext(t *testing.T) {
 	b := opened(t, device(t, 128, 1<<17), 24)
@@ -495,6 +536,11 @@ func TestNext(t *testing.T) {
 	k96, _ := key.Of(parse(t, `"`+long+`"`))
 	if k, _, ok, _ := b.Next("a", "", append(slices.Clone(k96[:94]), 255, 255, 255)); !ok || bytes.Equal(k, k96) {
 		t.Error("Next above what is longer than keys")
+	}
+	spare := append(make([]byte, 0, 9), 1, 2)
+	b.Next("a", "", spare[:1])
+	if spare[1] != 2 {
+		t.Error("R4: Next writes into what it is handed")
 	}
 	for _, c := range [][2]string{{"b", ""}, {"a", "j"}} {
 		_, e1 := b.Entries(c[0], c[1])
@@ -567,6 +613,11 @@ func TestLoose(t *testing.T) {
 	}{{0, []byte{1}}, {x + 40, []byte{1}}, {x, nil}, {x, make([]byte, 97)}} {
 		if had, e := b.Enter(c.tree, c.entry, true); had || e != api.ErrArg {
 			t.Error("Enter", c.tree, e)
+		}
+	}
+	for _, on := range []bool{true, false} {
+		if had, e := b.Enter(x, make([]byte, 96), on); had == on || e != api.OK {
+			t.Error("Enter of 96 bytes", had, e)
 		}
 	}
 	for i, want := range []bool{false, true, true, false} {

@@ -133,6 +133,9 @@ func TestIndexFull(t *testing.T) {
 	for i := range 300 {
 		doc := api.Val{Kind: api.Doc, F: []api.Field{{Name: "_id", V: api.Val{Kind: api.Int, N: uint64(i)}}, {Name: "x", V: api.Val{Kind: api.Bytes, B: append(make([]byte, 20), byte(i+1))}}}}
 		if r := one(t, b, api.Request{Do: plain.Put, Coll: "a", Doc: doc}); r.E != api.OK {
+			t.Fatal("Put", r.E)
+		}
+		if left, _ := space.Left(b.s); left < 6+8 {
 			break
 		}
 	}

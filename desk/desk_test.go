@@ -395,6 +395,24 @@ func TestVictim(t *testing.T) {
 	r.see(2, `0 {"_id": 1}`)
 }
 
+// A bound whose key would be too long is a bound all the same.
+func TestLongBounds(t *testing.T) {
+	r := fresh(t)
+	r.ask(1, onA(plain.Make), "0")
+	r.feed(1, indexed("i", "x", false))
+	r.d.Run(99)
+	r.see(1, "0")
+	for _, s := range []string{"a", "z"} {
+		r.ask(1, put(`{"_id": "`+s+`", "x": "`+s+`"}`), "0")
+	}
+	long := parse(`"` + strings.Repeat("m", 200) + `"`)
+	for _, of := range []string{"", "i"} {
+		r.ask(1, api.Request{Do: plain.Find, Coll: "a", Index: of, N: 9, Low: long}, `0 n1 {"_id": "z", "x": "z"}`)
+		r.ask(1, api.Request{Do: plain.Find, Coll: "a", Index: of, N: 9, High: long}, `0 n1 {"_id": "a", "x": "a"}`)
+		r.ask(1, api.Request{Do: plain.Find, Coll: "a", Index: of, N: 9, Low: long, High: long}, `0`)
+	}
+}
+
 // Ranges: what is added to them waits, what lies beside them does not.
 func TestRanges(t *testing.T) {
 	r := fresh(t)
