@@ -73,11 +73,10 @@ func (d *Desk) try(x *session) {
 func (a *attempt) attempt() (reply api.Reply, left gaveUp) {
 	defer func() {
 		if t := recover(); t != nil {
-			if g, ok := t.(gaveUp); ok {
-				left = g
-				return
+			g, ok := t.(gaveUp)
+			if left = g; !ok {
+				reply = api.Reply{E: api.ErrState}
 			}
-			panic(t)
 		}
 	}()
 	do, ok := answers()[a.r.Do]
