@@ -178,18 +178,11 @@ func (a *asked) clashes(x *index, k []byte) (bool, api.Errno) {
 }
 
 // change makes now the document of k, in place of old, as a group of the transaction.
-// If there is no room, it is tried once more behind what gives room back.
 func (a *asked) change(k []byte, old api.Val, was []byte, now api.Val, b []byte) api.Errno {
 	if e := a.b.tend(); e != api.OK {
 		return e
 	}
-	e := a.tryChange(k, old, was, now, b)
-	if e == api.ErrFull {
-		if e := a.b.relieve(); e != api.OK {
-			return e
-		}
-		e = a.tryChange(k, old, was, now, b)
-	}
+	e := a.b.pressed(func() api.Errno { return a.tryChange(k, old, was, now, b) })
 	if e == api.OK {
 		a.b.note(a.c.name, k)
 		a.w.changed[a.c.name] = struct{}{}

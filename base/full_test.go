@@ -126,6 +126,27 @@ func TestLongTransaction(t *testing.T) {
 	exact(t, c.b)
 }
 
+// P16.5: what was dropped gives its pages back, though nobody tidies.
+func TestDropped(t *testing.T) {
+	b := opened(t, device(t, 256, 1<<18), 24)
+	src := sample.New(3)
+	most := 0
+	for range 200 {
+		must(t, b, api.Request{Do: plain.Make, Coll: "a"})
+		must(t, b, api.Request{Do: plain.Index, Coll: "a", Index: "i", Path: "_id"})
+		for i := range 5 {
+			must(t, b, api.Request{Do: plain.Put, Coll: "a", Doc: api.Val{Kind: api.Doc, F: []api.Field{{Name: "_id", V: api.Val{Kind: api.Int, N: uint64(i)}}, {Name: "f", V: api.Val{Kind: api.Bytes, B: src.Bytes(600)}}}}})
+		}
+		must(t, b, api.Request{Do: plain.Drop, Coll: "a"})
+		graves, _ := b.Graves()
+		most = max(most, len(graves))
+	}
+	if most < 10 {
+		t.Error("graves are dug though there are pages enough", most)
+	}
+	exact(t, b)
+}
+
 // P16.2, R3: an index for which there is no room leaves nothing, not even a grave.
 func TestIndexFull(t *testing.T) {
 	b := opened(t, device(t, 48, 1<<16), 24)
@@ -139,18 +160,18 @@ func TestIndexFull(t *testing.T) {
 			break
 		}
 	}
-	before, used := state(t, b), 0
-	for i := range 3 {
+	before := state(t, b)
+	used, _ := space.Used(b.s)
+	for range 3 {
 		if r := one(t, b, api.Request{Do: plain.Index, Coll: "a", Index: "i", Path: "x"}); r.E != api.ErrFull {
 			t.Fatal("Index", r.E)
 		}
 		graves, _ := b.Graves()
 		trees, _ := b.Trees()
 		pages, _ := space.Used(b.s)
-		if state(t, b) != before || len(graves) != 0 || len(trees) != 1 || i > 0 && len(pages) != used {
-			t.Error("something is left", graves, trees, len(pages), used)
+		if state(t, b) != before || len(graves) != 0 || len(trees) != 1 || len(pages) != len(used) {
+			t.Error("something is left", graves, trees, len(pages), len(used))
 		}
-		used = len(pages)
 	}
 	exact(t, b)
 }
@@ -167,11 +188,13 @@ func TestFull(t *testing.T) {
 		full := 0
 		for i := range 300 {
 			was := state(t, b)
+			used, _ := space.Used(b.s)
 			doc := api.Val{Kind: api.Doc, F: []api.Field{{Name: "_id", V: api.Val{Kind: api.Int, N: uint64(i % 100)}}, {Name: "f", V: api.Val{Kind: api.Bytes, B: src.Bytes(src.Below(60))}}, {Name: "g", V: api.Val{Kind: api.Bytes, B: src.Bytes(src.Below(900))}}}}
 			switch r := b.Do(id, api.Request{Do: plain.Put, Coll: "a", Doc: doc}); r.E {
 			case api.OK:
 			case api.ErrFull:
-				if full++; state(t, b) != was {
+				now, _ := space.Used(b.s)
+				if full++; state(t, b) != was || len(now) != len(used) {
 					t.Fatal("ErrFull changes something")
 				}
 			case api.ErrKey:
