@@ -440,3 +440,85 @@ func TestWide(t *testing.T) {
 		}
 	}
 }
+
+// broken is an Undoer that can't be asked, if it is nil.
+type broken struct{ told int }
+
+func (u *broken) Undo(g *atom.Group, data []byte) api.Errno {
+	u.told++
+	return api.OK
+}
+
+// wrote does a group that makes page n of a kind, within a new transaction.
+func wrote(t *testing.T, m *Manager, n int, undo []byte) uint64 {
+	t.Helper()
+	id, _ := m.Begin()
+	g, _ := m.Store().Group()
+	p, _ := page.New(n + 1)
+	if g.Write(n, p) != api.OK {
+		t.Fatal("Write")
+	}
+	if e := m.Done(id, g, undo); e != api.OK {
+		t.Fatal("Done", e)
+	}
+	return id
+}
+
+// P13.1, R6: without an Undoer all is taken that asks none; R1, R3: what must ask one is refused, and changes nothing.
+func TestNoUndoer(t *testing.T) {
+	d := device(8, 20000)
+	s, _ := atom.Open(d, 4)
+	m, e := Open(s, nil)
+	if m == nil || e != api.OK {
+		t.Fatal("Open without an Undoer", e)
+	}
+	if m.Commit(wrote(t, m, 0, nil)) != api.OK || m.Abort(wrote(t, m, 1, nil)) != api.OK {
+		t.Error("undo data that are empty")
+	}
+	left := wrote(t, m, 2, []byte{})
+	s.Force(s.Log().End())
+	again, _ := atom.Open(d.Crash(nil), 4)
+	if c, e := Open(again, nil); e != api.OK || len(c.Active()) != 0 {
+		t.Error("one that was active behind a crash", e)
+	}
+	for n := range 3 {
+		p, _ := again.Read(n)
+		if kind, _, _, _, _ := page.Head(p); kind != n+1 {
+			t.Error("what has no undo data stays", n, kind)
+		}
+	}
+	mark, _ := m.Mark(left)
+	other := wrote(t, m, 3, []byte{7})
+	start, _ := m.Mark(other)
+	g, _ := s.Group()
+	m.Done(other, g, nil)
+	now, _ := m.Mark(other)
+	if m.Back(left, mark) != api.OK || m.Back(other, start) != api.OK || m.Back(other, now) != api.ErrArg || m.Abort(left) != api.OK {
+		t.Error("Back and Abort where nothing asks")
+	}
+	g, _ = s.Group()
+	m.Done(other, g, nil)
+	now, _ = m.Mark(other)
+	if e := m.Abort(other); e != api.ErrArg || fmt.Sprint(m.Active()) != fmt.Sprint([]uint64{other}) {
+		t.Error("Abort of what asks", e, m.Active())
+	}
+	if again, e := m.Mark(other); again != now || e != api.OK {
+		t.Error("what is refused changes nothing", again, now, e)
+	}
+	s.Force(s.Log().End())
+	none, _ := atom.Open(d.Crash(nil), 4)
+	if c, e := Open(none, nil); c != nil || e != api.ErrArg {
+		t.Error("Open of what asks", e)
+	}
+	var nobody *broken
+	if c, e := Open(none, nobody); c != nil || e != api.ErrArg {
+		t.Error("an Undoer that panics", e)
+	}
+	u := &broken{}
+	if c, e := Open(none, u); c == nil || e != api.OK || u.told != 1 {
+		t.Error("one that can be asked", e, u.told)
+	}
+	if m.Commit(other) != api.OK || m.Checkpoint() != api.OK {
+		t.Error("Commit of what asks")
+	}
+}

@@ -5,6 +5,7 @@ import (
 	"slices"
 
 	"muniment/api"
+	"muniment/atom"
 )
 
 // due is a transaction whose last step, of that LSN, is to be undone.
@@ -38,8 +39,17 @@ func (q *dues) add(t *transaction, mark uint64) {
 	}
 }
 
+// asks tells whether undoing what a transaction did behind a mark asks the Undoer.
+func (t *transaction) asks(mark uint64) bool {
+	return slices.ContainsFunc(t.steps, func(x step) bool { return x.lsn > mark && len(x.data) > 0 })
+}
+
 // undo undoes what transactions did behind a mark, the last group of all first.
 func (m *Manager) undo(all []*transaction, mark uint64) api.Errno {
+	// seen ahead of the first step, so that nothing has changed when it is refused
+	if m.u == nil && slices.ContainsFunc(all, func(t *transaction) bool { return t.asks(mark) }) {
+		return api.ErrArg
+	}
 	q := &dues{}
 	for _, t := range all {
 		q.add(t, mark)
@@ -82,7 +92,7 @@ func (m *Manager) tryUndo(t *transaction, last bool) api.Errno {
 		return e
 	}
 	defer g.Drop()
-	if e := m.u.Undo(g, slices.Clone(x.data)); e != api.OK {
+	if e := ask(m.u, g, x.data); e != api.OK {
 		return e
 	}
 	bytes, _ := m.need()
@@ -94,4 +104,14 @@ func (m *Manager) tryUndo(t *transaction, last bool) api.Errno {
 		t.last = lsn
 	}
 	return e
+}
+
+// ask lets the Undoer fill a group. It is another's, and may be a nil pointer: if it panics, it is no argument to go by.
+func ask(u Undoer, g *atom.Group, data []byte) (e api.Errno) {
+	defer func() {
+		if recover() != nil {
+			e = api.ErrArg
+		}
+	}()
+	return u.Undo(g, slices.Clone(data))
 }
