@@ -182,39 +182,16 @@ func (a *asked) change(k []byte, old api.Val, was []byte, now api.Val, b []byte)
 	if e := a.b.tend(); e != api.OK {
 		return e
 	}
-	e := a.b.pressed(func() api.Errno { return a.tryChange(k, old, was, now, b) })
+	s := &swap{a: a, k: k, old: old, now: now, was: was, is: b}
+	e := a.b.grouped(s.wasting, s.done)
+	if e == api.ErrFull {
+		e = a.b.pressed(s.freeing, s.done)
+	}
 	if e == api.OK {
 		a.b.note(a.c.name, k)
 		a.w.changed[a.c.name] = struct{}{}
 	}
 	return e
-}
-
-func (a *asked) tryChange(k []byte, old api.Val, was []byte, now api.Val, bytes []byte) api.Errno {
-	b := a.b
-	g, e := b.s.Group()
-	if e != api.OK {
-		return e
-	}
-	defer g.Drop()
-	turns, e := a.c.apply(g, k, old, now, bytes)
-	if e != api.OK {
-		return e
-	}
-	o := b.opOf(a.c, was, turns)
-	n, e := b.needed(g, &o)
-	if e != api.OK {
-		return e
-	}
-	if e := b.spared(g, n); e != api.OK {
-		return e
-	}
-	if e := b.m.DoneFor(a.t, g, undoData(o.seq, a.c.name, k, was), n.heaviest()); e != api.OK {
-		return e
-	}
-	b.ops = o.seq
-	a.w.add(o)
-	return api.OK
 }
 
 // document tells the document whose id is the request's Key.

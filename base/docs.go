@@ -65,14 +65,17 @@ func (c *coll) read(r atom.Reader, k []byte) (d api.Val, b []byte, ok bool, e ap
 	return d, b, true, api.OK
 }
 
+// parting is what becomes of a chain that a document has no longer.
+type parting func(g *atom.Group, first int) api.Errno
+
 // store puts bytes of a document at a key, in place of those that are there; none: it is taken out.
-func (c *coll) store(g *atom.Group, k, b []byte) api.Errno {
+func (c *coll) store(g *atom.Group, k, b []byte, part parting) api.Errno {
 	old, had, e := tree.Get(g, c.root, k)
 	if e != api.OK {
 		return e
 	}
 	if first, ok := chained(old); had && ok {
-		if e := chain.Free(g, first); e != api.OK {
+		if e := part(g, first); e != api.OK {
 			return e
 		}
 	}
@@ -117,8 +120,8 @@ func (c *coll) turns(old, now api.Val) []turn {
 }
 
 // apply makes now, as bytes b, the document of a key, in place of old: in the documents' tree, and in all indexes.
-func (c *coll) apply(g *atom.Group, k []byte, old, now api.Val, b []byte) ([]turn, api.Errno) {
-	if e := c.store(g, k, b); e != api.OK {
+func (c *coll) apply(g *atom.Group, k []byte, old, now api.Val, b []byte, part parting) ([]turn, api.Errno) {
+	if e := c.store(g, k, b, part); e != api.OK {
 		return nil, e
 	}
 	turns := c.turns(old, now)

@@ -169,6 +169,10 @@ func (b *Base) Dig() (bool, api.Errno) {
 
 // digOne frees some pages of that grave.
 func (b *Base) digOne(x loose) api.Errno {
+	if x.root == b.waste.root {
+		// what came into it below the keys that were dug would not be met
+		b.waste = waste{}
+	}
 	d := &digger{b: b, x: x, left: digPages}
 	if e := b.within(d.dig); e != api.OK {
 		return e

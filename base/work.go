@@ -157,13 +157,10 @@ func (b *Base) needed(g *atom.Group, more *op) (*needs, api.Errno) {
 	return n, n.add(w)
 }
 
-// spared tells ErrFull, if fewer pages were left than undoing needs: what is active, and one change more.
-func (b *Base) spared(g *atom.Group, n *needs) api.Errno {
-	left, e := space.Left(g)
-	if e != api.OK {
-		return e
-	}
-	before, e := space.Left(b.s)
+// spared tells ErrFull, if fewer pages were left than undoing needs: what is active, and one change more;
+// so many were left ahead of what the group did.
+func (b *Base) spared(n *needs, before int) api.Errno {
+	left, e := space.Left(n.g)
 	need := n.pages
 	if left < before {
 		need += b.slack()
@@ -268,13 +265,13 @@ func (r *reader) put() api.Errno {
 // take takes the document out again.
 func (r *reader) take() api.Errno { return r.change(api.Val{}, nil) }
 
-// change makes the document what it was.
+// change makes the document what it was. A chain that it has no longer is freed at once: a grave might need pages.
 func (r *reader) change(to api.Val, b []byte) api.Errno {
 	now, _, _, e := r.c.read(r.g, r.k)
 	if e != api.OK {
 		return e
 	}
-	_, e = r.c.apply(r.g, r.k, now, to, b)
+	_, e = r.c.apply(r.g, r.k, now, to, b, chain.Free)
 	return e
 }
 

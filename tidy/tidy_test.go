@@ -92,8 +92,40 @@ func TestExamples(t *testing.T) {
 			t.Error("All of", most, n, e)
 		}
 	}
+	for _, alone := range []bool{true, false} {
+		putAndTaken(t, b, 40, alone)
+		if n, e := All(b, 1000); n < 1 || e != api.OK {
+			t.Error("All behind documents with chains: no steps", alone, n, e)
+		}
+		if s, _ := b.State(); len(s.Colls[0].Docs) != 0 || pages(b) != at+1 {
+			t.Error("pages in use behind chains", alone, pages(b), at)
+		}
+		settled(t, b)
+	}
 	if _, e := Step(nil); e == api.OK {
 		t.Error("no base")
+	}
+}
+
+// putAndTaken puts documents of growing size, and takes them, each alone, or all in one transaction.
+func putAndTaken(t *testing.T, b *base.Base, n int, alone bool) {
+	t.Helper()
+	id, _ := b.Begin()
+	for i := range 2 * n {
+		r := api.Request{Do: plain.Put, Coll: "a", Doc: doc(i, i*50)}
+		if i >= n {
+			r = api.Request{Do: plain.Take, Coll: "a", Key: number(i - n)}
+		}
+		if out := b.Do(id, r); out.E != api.OK {
+			t.Fatal("request", r.Do, out.E)
+		}
+		if alone {
+			b.Commit(id)
+			id, _ = b.Begin()
+		}
+	}
+	if e := b.Commit(id); e != api.OK {
+		t.Fatal("Commit", e)
 	}
 }
 
